@@ -1,0 +1,100 @@
+"""Point 1: the named error for each value that is not allowed, whatever it is and wherever it stands."""
+
+import copy
+import unittest
+
+from bellcopies import alike, climbs, rows, stairs
+from bellcopies.errors import BellError
+from tests import kinds
+from tests.support import error_of, strange_values
+
+# What may stand last in a call of a function whose name begins with `shows`: nothing is bad there.
+ANYTHING = (None, ())
+
+CALLS = (
+    (rows.ring, kinds.SIZE, kinds.BELLS),
+    (rows.said, kinds.SIGNS, kinds.BELLS),
+    (rows.sayings, kinds.SIGNS, kinds.BELLS),
+    (climbs.climb, kinds.SIZE, kinds.BELLS, kinds.FIRST, kinds.LAST),
+    (climbs.shows_climb, kinds.SIZE, kinds.BELLS, kinds.FIRST, kinds.LAST, ANYTHING),
+    (stairs.stairs, kinds.SIZE),
+    (stairs.stair_count, kinds.SIZE),
+    (stairs.bells_of, kinds.STAIR),
+    (stairs.bell_count, kinds.STAIR),
+    (stairs.all_bells, kinds.STAIR),
+    (stairs.row_count, kinds.STAIR),
+    (alike.same, kinds.SIZE, kinds.BELLS, kinds.BELLS),
+    (alike.telling, kinds.SIZE, kinds.BELLS, kinds.BELLS),
+    (alike.shows_telling, kinds.SIZE, kinds.BELLS, kinds.BELLS, ANYTHING),
+    (alike.shortened, kinds.SIZE, kinds.BELLS),
+    (alike.needless, kinds.SIZE, kinds.BELLS),
+    (alike.core, kinds.SIZE, kinds.BELLS),
+    (alike.shows_core, kinds.SIZE, kinds.BELLS, ANYTHING),
+)
+
+
+class WrongInputs(unittest.TestCase):
+    def check_error(self, function, arguments, error, fields):
+        found = error_of(function, arguments)
+        self.assertIs(type(found), error, (function.__name__, arguments, found))
+        self.assertIsInstance(found, BellError)
+        for name, content in fields.items():
+            self.assertEqual(getattr(found, name), content, (function.__name__, arguments))
+
+    def test_good_arguments(self):
+        for function, *wanted in CALLS:
+            self.assertIsNone(error_of(function, [good for good, _ in wanted]), function.__name__)
+
+    def test_each_bad_value_in_the_place_of_each_argument(self):
+        for function, *wanted in CALLS:
+            for at, (_, bads) in enumerate(wanted):
+                for bad, error, fields in bads:
+                    arguments = [good for good, _ in wanted]
+                    arguments[at] = bad
+                    self.check_error(function, arguments, error, fields)
+
+    def test_of_two_bad_arguments_the_left_one_is_told(self):
+        for function, *wanted in CALLS:
+            for at in range(len(wanted)):
+                for later in range(at + 1, len(wanted)):
+                    for bad, error, fields in wanted[at][1]:
+                        for bad_too, _, _ in wanted[later][1][::7]:
+                            arguments = [good for good, _ in wanted]
+                            arguments[at] = bad
+                            arguments[later] = bad_too
+                            self.check_error(function, arguments, error, fields)
+
+    def test_bad_arguments_beside_strange_last_values(self):
+        for function, *wanted in CALLS:
+            if wanted[-1] is ANYTHING:
+                for at in range(len(wanted) - 1):
+                    for bad, error, fields in wanted[at][1][::5]:
+                        for value in strange_values():
+                            arguments = [good for good, _ in wanted]
+                            arguments[at] = bad
+                            arguments[-1] = value
+                            self.check_error(function, arguments, error, fields)
+
+    def test_any_last_value_of_shows(self):
+        for function, *wanted in CALLS:
+            if wanted[-1] is ANYTHING:
+                self.assertTrue(function.__name__.startswith("shows"))
+                for value in strange_values():
+                    arguments = [good for good, _ in wanted[:-1]]
+                    self.assertIn(function(*arguments, value), (True, False))
+                    self.assertIs(type(function(*arguments, value)), bool)
+
+    def test_arguments_are_not_modified(self):
+        for function, *wanted in CALLS:
+            for at, (_, bads) in enumerate(wanted):
+                for bad, _, _ in bads:
+                    arguments = [good for good, _ in wanted]
+                    arguments[at] = copy.deepcopy(bad)
+                    error_of(function, arguments)
+                    self.assertEqual(arguments[at], bad)
+                    self.assertIs(type(arguments[at]), type(bad))
+
+    def test_equal_calls_have_equal_answers(self):
+        for function, *wanted in CALLS:
+            arguments = [good for good, _ in wanted]
+            self.assertEqual(function(*arguments), function(*arguments))
