@@ -24,6 +24,37 @@ EXAMPLES = {
 >>> [same(3, (2, 3, 2), (2, 3)), telling(3, (2, 3), (3, 2)), shortened(3, (2, 3, 2, 3)), needless(3, (2, 2))]
 [True, 3, (2, 3), (0, 1)]
 """,
+    "products": """
+>>> from bellcopies.products import combined, goes_on, power, rest_of, steady_stairs
+>>> [combined((1, 1, 3), (1, 2, 2)), power((1, 1, 2), 2), rest_of((1, 1, 2)), goes_on((1, 1, 2), (1, 1, 1)), steady_stairs(2)]
+[(1, 1, 1), (1, 1, 1), 2, (3,), ((1, 1), (1, 2))]
+""",
+    "order": """
+>>> from bellcopies.order import chain_count, covers, rank, rank_counts
+>>> [rank((1, 1, 2)), covers((1, 2, 2)), rank_counts(3), chain_count((1, 2, 3), (1, 1, 1))]
+[2, ((1, 1, 2),), (1, 2, 1, 1), 2]
+""",
+    "rounds": """
+>>> from bellcopies.rounds import in_reach, rounds, shows_rounds
+>>> [rounds((1, 1, 3, 3)), shows_rounds((1, 1, 3, 3), ((2, 4),)), in_reach((1, 1), 3)]
+[1, True, True]
+""",
+    "moves": """
+>>> from bellcopies.moves import blocks, mirrored, move_count, ring_moves, rising_count, win_moves
+>>> [ring_moves(3, (-2, 3)), rising_count(3), mirrored((1, 1, 2)), blocks((1, 1, 3)), win_moves(3, 2), move_count((1, 3, 3))]
+[(1, 3, 3), 10, (2, 3, 3), ((1, 2), (3, 1)), (-1, 3), 1]
+""",
+    "rings": """
+>>> from bellcopies.rings import lift, lift_bells, lift_count, lifts_within, ring_winner, turns_back
+>>> [lift(2, (1, 2)), lift_count((0, 0)), lift_bells((0, 0)), turns_back(2, (1, 2)), ring_winner(2, (1,)), lifts_within(2, 2)]
+[(0, 0), 2, (1, 2), (0, 1), 2, 5]
+""",
+    "webs": """
+>>> from bellcopies.webs import left_over, needless_entries, trace, web_ring
+>>> web = (3, ((1, 2), (2, 3)))
+>>> [web_ring(web, (0, 1)), trace(web, (0, 1), 3), left_over(web, (1, 0)), needless_entries(web, (0, 0))]
+[(1, 1, 1), (0, 1), (1, 2), (0, 1)]
+""",
 }
 
 

@@ -15,6 +15,29 @@ INTERFACE = {
         "same(size, one, other)", "shows_telling(size, one, other, value)", "shows_core(size, bells, value)",
         "telling(size, one, other)", "shortened(size, bells)", "needless(size, bells)", "core(size, bells)",
     ),
+    "products": (
+        "combined(one, other)", "power(stair, many)", "rest_of(stair)", "steady_count(size)", "is_steady(stair)",
+        "steady_stairs(size)", "goes_on(one, other)", "goes_before(one, other)",
+    ),
+    "order": (
+        "is_below(one, other)", "meet(one, other)", "join(one, other)", "rank_counts(size)", "rank(stair)",
+        "chain_count(one, other)", "covers(stair)",
+    ),
+    "rounds": ("rounds(stair)", "round_plan(stair)", "shows_rounds(stair, value)", "in_reach(stair, many)"),
+    "moves": (
+        "ring_moves(size, moves)", "moves_of(rising)", "mirrored(rising)", "rising_count(size)", "move_count(rising)",
+        "rising_rows(size)", "joined_moves(one, other)", "win_moves(size, person)", "move_rest(rising)",
+        "win_count(size, person)", "blocks(rising)", "wins(size, moves, person)",
+    ),
+    "rings": (
+        "lift(size, bells)", "lift_after(one, other)", "turns_back(size, bells)", "lift_count(lift)",
+        "ring_winner(size, bells)", "lift_bells(lift)", "lifts_within(size, many)", "same_in_ring(size, one, other)",
+        "same_signs(size, one, other)",
+    ),
+    "webs": (
+        "web_ring(web, log)", "web_said(web, signs, log)", "trace(web, log, person)", "left_over(web, log)",
+        "needless_entries(web, log)",
+    ),
 }
 
 

@@ -8,6 +8,9 @@ import unittest
 
 PACKAGE = pathlib.Path(__file__).resolve().parent.parent / "bellcopies"
 
+# A test that runs examples may have left an answer under the name `_`.
+BUILTINS = set(dir(builtins)) - {"_"}
+
 ALLOWED_BUILTINS = set(
     "len range enumerate zip min max sum abs sorted reversed int str bool bytes list tuple dict set frozenset "
     "isinstance ord repr any all divmod pow getattr hasattr setattr iter next map Exception ValueError TypeError "
@@ -77,7 +80,7 @@ class Files(unittest.TestCase):
         for path in PACKAGE.iterdir():
             if path.name != "__pycache__":
                 self.assertRegex(path.name, r"\A([a-z][a-z0-9_]*|__init__)\.py\Z")
-                self.assertNotIn(path.stem, dir(builtins))
+                self.assertNotIn(path.stem, BUILTINS)
 
     def test_lines_and_characters(self):
         for path in package_files():
@@ -101,7 +104,7 @@ class Names(unittest.TestCase):
     def test_builtins(self):
         for path, tree in trees():
             for node in ast.walk(tree):
-                if isinstance(node, ast.Name) and node.id in dir(builtins):
+                if isinstance(node, ast.Name) and node.id in BUILTINS:
                     self.assertIn(node.id, ALLOWED_BUILTINS, path)
                     self.assertIsInstance(node.ctx, ast.Load, path)
 
@@ -122,11 +125,11 @@ class Names(unittest.TestCase):
                 if isinstance(node, ast.Assign):
                     names += [target.id for target in node.targets]
             self.assertEqual(len(names), len(set(names)), path)
-            self.assertFalse(set(names) & set(dir(builtins)), path)
+            self.assertFalse(set(names) & BUILTINS, path)
 
     def test_locals_hide_no_import_and_no_class(self):
         for path, tree in trees():
-            taken = set(dir(builtins))
+            taken = set(BUILTINS)
             for node in tree.body:
                 if isinstance(node, ast.ImportFrom):
                     taken |= {alias.name for alias in node.names}

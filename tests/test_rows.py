@@ -49,6 +49,7 @@ class Said(unittest.TestCase):
 class Sayings(unittest.TestCase):
     def test_a_row_before_the_first_bell_and_behind_each(self):
         self.assertEqual(sayings((1, 2), ()), ((1, 2),))
+        self.assertEqual(sayings((1,) * 8, (8,)), ((1,) * 8, (1,) * 8))
         self.assertEqual(sayings((5, 6, 7), (3, 2, 2)), ((5, 6, 7), (5, 6, 6), (5, 5, 6), (5, 5, 6)))
 
     def test_each_row_is_what_is_said_behind_so_many_bells(self):

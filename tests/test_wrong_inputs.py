@@ -3,7 +3,7 @@
 import copy
 import unittest
 
-from bellcopies import alike, climbs, rows, stairs
+from bellcopies import alike, climbs, moves, order, products, rings, rounds, rows, stairs, webs
 from bellcopies.errors import BellError
 from tests import kinds
 from tests.support import error_of, strange_values
@@ -30,6 +30,51 @@ CALLS = (
     (alike.needless, kinds.SIZE, kinds.BELLS),
     (alike.core, kinds.SIZE, kinds.BELLS),
     (alike.shows_core, kinds.SIZE, kinds.BELLS, ANYTHING),
+    (products.combined, kinds.STAIR, kinds.SECOND_STAIR),
+    (products.power, kinds.STAIR, kinds.count_to(100)),
+    (products.rest_of, kinds.STAIR),
+    (products.is_steady, kinds.STAIR),
+    (products.steady_stairs, kinds.SIZE),
+    (products.steady_count, kinds.SIZE),
+    (products.goes_on, kinds.STAIR, kinds.SECOND_STAIR),
+    (products.goes_before, kinds.STAIR, kinds.SECOND_STAIR),
+    (order.is_below, kinds.STAIR, kinds.SECOND_STAIR),
+    (order.meet, kinds.STAIR, kinds.SECOND_STAIR),
+    (order.join, kinds.STAIR, kinds.SECOND_STAIR),
+    (order.rank, kinds.STAIR),
+    (order.rank_counts, kinds.SIZE),
+    (order.covers, kinds.STAIR),
+    (order.chain_count, kinds.STAIR, kinds.SECOND_STAIR),
+    (rounds.rounds, kinds.STAIR),
+    (rounds.round_plan, kinds.STAIR),
+    (rounds.shows_rounds, kinds.STAIR, ANYTHING),
+    (rounds.in_reach, kinds.STAIR, kinds.count_to(100)),
+    (moves.ring_moves, kinds.SIZE, kinds.MOVES),
+    (moves.rising_count, kinds.SIZE),
+    (moves.rising_rows, kinds.SIZE),
+    (moves.move_count, kinds.RISING),
+    (moves.moves_of, kinds.RISING),
+    (moves.mirrored, kinds.RISING),
+    (moves.joined_moves, kinds.RISING, kinds.SECOND_RISING),
+    (moves.move_rest, kinds.RISING),
+    (moves.blocks, kinds.RISING),
+    (moves.wins, kinds.SIZE, kinds.MOVES, kinds.PERSON),
+    (moves.win_count, kinds.SIZE, kinds.PERSON),
+    (moves.win_moves, kinds.SIZE, kinds.PERSON),
+    (rings.lift, kinds.SIZE, kinds.RING_BELLS),
+    (rings.lift_count, kinds.LIFT),
+    (rings.lift_bells, kinds.LIFT),
+    (rings.lifts_within, kinds.SIZE, kinds.count_to(8)),
+    (rings.lift_after, kinds.LIFT, kinds.SECOND_LIFT),
+    (rings.same_in_ring, kinds.SIZE, kinds.RING_BELLS, kinds.RING_BELLS),
+    (rings.same_signs, kinds.SIZE, kinds.RING_BELLS, kinds.RING_BELLS),
+    (rings.turns_back, kinds.SIZE, kinds.RING_BELLS),
+    (rings.ring_winner, kinds.SIZE, kinds.RING_BELLS),
+    (webs.web_ring, kinds.WEB, kinds.LOG),
+    (webs.web_said, kinds.WEB, kinds.WEB_SIGNS, kinds.LOG),
+    (webs.trace, kinds.WEB, kinds.LOG, kinds.PERSON),
+    (webs.left_over, kinds.WEB, kinds.LOG),
+    (webs.needless_entries, kinds.WEB, kinds.LOG),
 )
 
 
