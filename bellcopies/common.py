@@ -1,6 +1,8 @@
-"""What several modules share: the checks of arguments, and work on rows of any kind."""
+"""What several modules share: the checks of arguments, ratios, and work on rows of any kind."""
 
-from bellcopies.errors import BadBells, BadCount, BadPair, BadPerson, BadSigns, BadSize, BadStair
+from math import gcd, lcm
+
+from bellcopies.errors import BadBells, BadCount, BadOdds, BadPair, BadPerson, BadSigns, BadSize, BadStair
 
 
 def is_whole(value, least, most):
@@ -82,6 +84,43 @@ def check_pair(one, other):
         raise BadPair("the second row is not as long as the first")
 
 
+def check_odds(odds, many):
+    """Raise BadOdds unless these are odds for so many things."""
+    if not isinstance(odds, tuple) or len(odds) != many or not all(is_part(entry) for entry in odds):
+        raise BadOdds("odds are a tuple of ratios greater than 0 with bottoms of at most 60, one for each thing")
+    weights, whole = weights_of(odds)
+    # Odds for nothing at all are allowed, and have no sum of 1.
+    if many > 0 and sum(weights) != whole:
+        raise BadOdds("the sum of odds is 1")
+
+
+def is_part(value):
+    """Whether a value is a ratio that may stand in odds."""
+    # What sums up to 1 has no top greater than its bottom.
+    return is_row(value, 2, 2, 1, 60) and gcd(value[0], value[1]) == 1
+
+
+def weights_of(odds):
+    """The pair of the list of integers that these odds are over one bottom, and this bottom."""
+    whole = 1
+    for _, bottom in odds:
+        whole = lcm(whole, bottom)
+    return [top * (whole // bottom) for top, bottom in odds], whole
+
+
+def ratio(top, bottom):
+    """The ratio of two integers, the second of which is not 0."""
+    shared = gcd(top, bottom)
+    if bottom < 0:
+        shared = -shared
+    return top // shared, bottom // shared
+
+
+def ratio_sum(one, other):
+    """The sum of two ratios."""
+    return ratio(one[0] * other[1] + other[0] * one[1], one[1] * other[1])
+
+
 def at_first(size):
     """The row in which each person says the own sign."""
     return tuple(range(1, size + 1))
@@ -125,3 +164,45 @@ def smallest_way(start, is_goal, choices, after):
                     following.append((way + (choice,), new))
         level = following
     return None
+
+
+def weigh_steps(start, choices, after, many):
+    """A dict from each state behind so many choices to the sum of the weights of the ways to it.
+
+    The choices are pairs (choice, weight), and the weight of a way is the product of those of its
+    choices; after(state, choice) gives the next state.
+    """
+    weighed = {start: 1}
+    for _ in range(many):
+        following = {}
+        for state, weight in weighed.items():
+            for choice, part in choices:
+                new = after(state, choice)
+                following[new] = following.get(new, 0) + weight * part
+        weighed = following
+    return weighed
+
+
+def without_unknown(row, lead, at):
+    """What an equation becomes without the unknown at this place, by means of a leading one with it."""
+    new = [entry * lead[at] - row[at] * part for entry, part in zip(row, lead)]
+    shared = 0
+    for entry in new:
+        shared = gcd(shared, entry)
+    # Smaller numbers with the same solution: without this they would grow at each step.
+    return [entry // max(shared, 1) for entry in new]
+
+
+def solved(equations):
+    """The list of the ratios that solve equations, of which there are as many as unknowns.
+
+    Each is a list of integers, the factors of the unknowns and last their sum; they have just one
+    solution.
+    """
+    left = list(equations)
+    done = []
+    for at in range(len(equations)):
+        lead = [row for row in left if row[at] != 0][0]
+        left = [without_unknown(row, lead, at) for row in left if row != lead]
+        done = [without_unknown(row, lead, at) for row in done] + [lead]
+    return [ratio(row[-1], row[at]) for at, row in enumerate(done)]

@@ -1,7 +1,7 @@
 """Webs, in which arcs tell who can take over from whom, and logs of such take-overs (point 13)."""
 
 from bellcopies.common import at_first, check_person, check_signs, is_row, is_whole
-from bellcopies.errors import BadLog, BadWeb
+from bellcopies.errors import BadLog, BadWeb, TooMany
 
 
 def is_arc(size, value):
@@ -27,6 +27,12 @@ def check_log(web, log):
         raise BadLog("a log is a tuple of at most 60 indexes of arcs")
 
 
+def check_people(web, most):
+    """Raise TooMany if a web has more than the most people."""
+    if web[0] > most:
+        raise TooMany(most)
+
+
 def logged(web, row, log):
     """The row behind all entries of a log."""
     entries = list(row)
@@ -34,6 +40,46 @@ def logged(web, row, log):
         source, person = web[1][index]
         entries[person - 1] = entries[source - 1]
     return tuple(entries)
+
+
+def next_rows(web, row):
+    """A dict from each row that logs make of this one to the list of the rows behind each arc from there."""
+    found = {}
+    level = [row]
+    while level:
+        following = []
+        for now in level:
+            if now not in found:
+                found[now] = [logged(web, now, (index,)) for index in range(len(web[1]))]
+                following.extend(found[now])
+        level = following
+    return found
+
+
+def spread(arcs, people):
+    """The ascending list of these people and of all to whom an arc leads from one of them."""
+    return sorted(set(people + [taker for source, taker in arcs if source in people]))
+
+
+def reach(arcs, people):
+    """The ascending list of these people and of all to whom ways of arcs lead from them."""
+    found = sorted(people)
+    following = spread(arcs, found)
+    while following != found:
+        found = following
+        following = spread(arcs, found)
+    return found
+
+
+def leads(web, indexes, person, goal):
+    """Whether the arcs at these indexes, one after another, lead from the one person to the other."""
+    at = person
+    for index in indexes:
+        source, taker = web[1][index]
+        if source != at:
+            return False
+        at = taker
+    return at == goal
 
 
 def web_ring(web, log):

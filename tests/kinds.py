@@ -1,11 +1,12 @@
 """The kinds of arguments: a good value of each, and values that are not allowed with their errors.
 
 A kind is a pair (good value, tuple of (bad value, error class, fields of the error)). The good
-values fit together: they are for 3 people.
+values fit together: they are for 3 people, or for as many as a kind is asked for.
 """
 
 from bellcopies.errors import (
-    BadBells, BadCount, BadLift, BadLog, BadMoves, BadPair, BadPerson, BadRising, BadSigns, BadSize, BadStair, BadWeb,
+    BadBells, BadCount, BadGoal, BadHearings, BadLift, BadLog, BadMoves, BadOdds, BadPair, BadPerson, BadPrices,
+    BadRising, BadSigns, BadSize, BadStair, BadStarts, BadTimes, BadWeb,
 )
 from tests.support import NOT_INTEGERS, NOT_TUPLES, with_bad_entries
 
@@ -28,7 +29,12 @@ def count_to(most):
     return kind(2, BadCount, NOT_INTEGERS + (-1, -2, most + 1, HUGE, -HUGE))
 
 
-SIZE = kind(3, BadSize, NOT_INTEGERS + (-3, 0, 1, 9, HUGE, -HUGE))
+def size_of(size):
+    """The kind of a size, of which this one is given."""
+    return kind(size, BadSize, NOT_INTEGERS + (-3, 0, 1, 9, HUGE, -HUGE))
+
+
+SIZE = size_of(3)
 
 BELLS = kind((2, 3, 2), BadBells, NOT_TUPLES + with_bad_entries((2, 3, 2)) + (
     (0,), (1,), (4,), (-2,), (HUGE,), (2, 3, 4), (2, 1, 3), (2,) * 61, (2, 3) * 200, ((2, 3),),
@@ -49,6 +55,14 @@ STAIR = kind((1, 1, 3), BadStair, NOT_TUPLES + with_bad_entries((1, 1, 3)) + (
     (1, 0), (1, 3), (-HUGE, 1, 1), ((1, 1, 3),),
 ))
 SECOND_STAIR = second(STAIR, ((1, 1), (1, 2, 3, 4), (1,) * 8))
+
+
+def stair_of(size):
+    """The kind of a stair of just this length."""
+    bads = tuple(bad for bad, _, _ in STAIR[1] if bad != (1,) * size)
+    return kind((1,) * size, BadStair, bads + tuple((1,) * other for other in range(2, 9) if other != size))
+
+
 
 MOVES = kind((-2, 3, 2, -1), BadMoves, NOT_TUPLES + with_bad_entries((-2, 3, 2)) + (
     (0,), (1,), (4,), (-3,), (-4,), (HUGE,), (-HUGE,), (2, 3, 0), (2, -1, 1), (2,) * 41, (-1, 2) * 100, ((2, 3),),
@@ -110,3 +124,124 @@ LOG = kind((0, 1, 0), BadLog, NOT_TUPLES + with_bad_entries((0, 1, 0)) + (
 WEB_SIGNS = kind((5, 0, 99), BadSigns, tuple(bad for bad, _, _ in SIGNS[1]) + (
     (5, 0), (5, 0, 99, 1), (1,) * 6,
 ))
+
+
+def web_of(size):
+    """The kind of a web, of which one of so many people is given, with one arc less."""
+    return (size, tuple((person, person + 1) for person in range(1, size))), bad_webs()
+
+
+def web_signs(size):
+    """The kind of as many signs as people."""
+    good = tuple(range(size))
+    return kind(good, BadSigns, NOT_TUPLES + with_bad_entries(good) + (
+        (), good[1:], good + (1,), (100,) + good[1:], good[:-1] + (-1,), (HUGE,) + good[1:], (good,),
+    ))
+
+
+def goal_of(size):
+    """The kind of a goal of so many people."""
+    good = tuple(range(size, 0, -1))
+    return kind(good, BadGoal, NOT_TUPLES + with_bad_entries(good) + (
+        (), good[1:], good + (1,), (0,) + good[1:], good[:-1] + (size + 1,), (-1,) + good[1:], (HUGE,) + good[1:],
+        good[:-1] + (-HUGE,), (good,), (1,) * (size + 1),
+    ))
+
+
+def prices_of(many):
+    """The kind of prices of so many arcs."""
+    good = (0, 1000, 7, 1, 1000)[:many]
+    return kind(good, BadPrices, NOT_TUPLES + with_bad_entries(good) + (
+        (), good[1:], good + (1,), (-1,) + good[1:], (1001,) + good[1:], good[:-1] + (HUGE,), (-HUGE,) + good[1:],
+        (good,), (1,) * 13,
+    ))
+
+
+def bad_at(good, bad_entries, error):
+    """A tuple with each bad entry at each place, with the error and the index of the first bad entry."""
+    bads = []
+    for at in range(len(good)):
+        for entry in bad_entries:
+            bads.append((good[:at] + (entry,) + good[at + 1:], error, {"index": at}))
+            bads.append((good[:at] + (entry,) + (None,) * (len(good) - at - 1), error, {"index": at}))
+    return tuple(bads)
+
+
+def hearings_of(size):
+    """The kind of hearings of so many signs."""
+    before = (5, 0, 99, 7, 7, 1, 50)[:size]
+    behind = (5, 5, 99, 7, 7, 1, 50)[:size]
+    good = ((before, behind), (behind, behind), (before, behind))
+    pairs = NOT_TUPLES + (
+        (), (before,), (before, behind, behind), [before, behind], {before: behind}, before, ((), ()), ((1,), (1,)),
+        ((1,) * 9, (1,) * 9), (before, behind[:-1]), (before[:-1], behind), (before, behind + (0,)), (before, ()),
+        ((), behind), (before, (behind,)), (before, (1,) * 9), (before, {}), ((before, behind),),
+        ((-1,) + before[1:], behind), (before, behind[:-1] + (-1,)), (before, behind[:-1] + (100,)),
+        (before, behind[:-1] + (HUGE,)),
+    )
+    pairs += tuple((before, bad) for bad in NOT_TUPLES + with_bad_entries(behind))
+    pairs += tuple((bad, behind) for bad in NOT_TUPLES + with_bad_entries(before))
+    bads = tuple((bad, BadHearings, {"index": None}) for bad in NOT_TUPLES + ((), good + good + good[:1], (None,) * 7))
+    bads += bad_at(good, pairs, BadHearings)
+    # Good pairs are bad behind one of another length.
+    bads += tuple(
+        (good[:at] + (((1,) * other,) * 2,) + good[at:], BadHearings, {"index": at})
+        for at in (1, 2, 3) for other in range(2, 9) if other != size
+    )
+    return good, bads
+
+
+def web_hearings(size):
+    """The kind of hearings of as many signs as a web has people."""
+    good, bads = hearings_of(size)
+    return good, bads + tuple(
+        ((((1,) * other,) * 2,) * many, BadHearings, {"index": None})
+        for other in range(2, 9) if other != size for many in (1, 6)
+    )
+
+
+def starts_of(size):
+    """The kind of starts of a size."""
+    good = (tuple(range(size)), (99,) * size, (0,) * size)
+    rows = NOT_TUPLES + with_bad_entries(good[0]) + (
+        (), (1,), (1,) * 9, good[0][1:], good[0] + (1,), (-1,) + good[0][1:], good[0][:-1] + (100,),
+        (HUGE,) + good[0][1:], (good[0],),
+    )
+    return kind(good, BadStarts, NOT_TUPLES + (good * 2 + good[:1], good[:1] * 7, good[0]) + tuple(
+        good[:at] + (row,) + good[at + 1:] for at in range(3) for row in rows
+    ))
+
+
+KINDS = kind(3, BadCount, NOT_INTEGERS + (-2, 0, 1, 5, HUGE, -HUGE))
+
+
+def odds_of(many):
+    """The kind of odds of so many things, two at least."""
+    good = ((1, 3), (2, 3)) if many == 2 else ((1, many),) * many
+    entries = NOT_TUPLES + (
+        (), (1,), (1, 2, 3), (0, 1), (0, 0), (1, 0), (-1, 2), (1, -2), (-1, -2), (2, 2 * many), (2, 4), (1, 61),
+        (1, 59), (1, 60), (1, 1), (2, 1), (HUGE, 1), (1, HUGE), (HUGE, HUGE + 1), (-HUGE, 1), ((1, 2),), (1, (2,)),
+        [1, many], [1, 3],
+    ) + with_bad_entries((1, 2)) + with_bad_entries((1, many))
+    rows = tuple(good[:at] + (entry,) + good[at + 1:] for at in range(many) for entry in entries)
+    return kind(good, BadOdds, NOT_TUPLES + rows + (
+        (), good[1:], good + good[-1:], good + ((0, 1),), ((1, 1),), good[0], (good,),
+        # The sum is 1, but not of such ratios.
+        ((0, 1),) * (many - 1) + ((1, 1),), ((-1, 2), (3, 2)) + ((0, 1),) * (many - 2), ((2, 2 * many),) * many,
+        ((1, 61),) * (many - 1) + ((62 - many, 61),), (1, many) * many,
+    ))
+
+
+def times_of(many):
+    """The kind of a table of times of so many arcs."""
+    good = ((0, 99), (7, 7), (3, 4), (99, 99))[:many]
+    pairs = NOT_TUPLES + (
+        (), (1,), (1, 2, 3), (2, 1), (99, 0), (-1, 0), (-1, -1), (0, 100), (100, 100), (0, HUGE), (-HUGE, 0),
+        (HUGE, HUGE), ((1, 2),), (1, (2,)), [1, 2], [0, 99],
+    ) + with_bad_entries((1, 2))
+    bads = NOT_TUPLES + ((), good[1:], good + good[-1:], (good,), (None,) * (many + 1))
+    return good, tuple((bad, BadTimes, {"index": None}) for bad in bads) + bad_at(good, pairs, BadTimes)
+
+
+# The other person of two unlike ones, of whom the first is 2.
+UNLIKE = kind(3, BadPerson, tuple(bad for bad, _, _ in PERSON[1]) + (2,))

@@ -1,6 +1,8 @@
 """What several tests share: values that are not allowed, and slow but plain ways to an answer."""
 
 import itertools
+import random
+from fractions import Fraction
 
 # Every kind of value that point 1 names, none of which is an integer.
 NOT_INTEGERS = (
@@ -87,6 +89,71 @@ def behind_bell(row, bell):
 def shortest_bells(size):
     """For each stair of a size (length, smallest row of bells, number of shortest rows)."""
     return shortest_words(tuple(range(1, size + 1)), range(2, size + 1), behind_bell)
+
+
+def slow_says(web, signs, log):
+    """What is said in the end, by the person."""
+    size, arcs = web
+    says = dict(zip(range(1, size + 1), signs))
+    for index in log:
+        says[arcs[index][1]] = says[arcs[index][0]]
+    return tuple(says[person] for person in range(1, size + 1))
+
+
+def people_of(web):
+    """The people of a web, as the row that they say at first."""
+    return tuple(range(1, web[0] + 1))
+
+
+def arcs_among(size):
+    """All arcs among so many people."""
+    return list(itertools.permutations(range(1, size + 1), 2))
+
+
+def small_webs(size):
+    """A web with each set of arcs among so few people, the arcs in one order or another."""
+    chance = random.Random(size)
+    for many in range(len(arcs_among(size)) + 1):
+        for arcs in itertools.combinations(arcs_among(size), many):
+            yield size, tuple(chance.sample(arcs, many))
+
+
+def some_webs(seed, many, sizes):
+    """So many webs of these sizes by chance, with few arcs and with many."""
+    chance = random.Random(seed)
+    for _ in range(many):
+        size = chance.choice(sizes)
+        arcs = arcs_among(size)
+        yield size, tuple(chance.sample(arcs, chance.randint(0, min(12, len(arcs)))))
+
+
+def shortest_logs(web, signs):
+    """For each row that logs make of these signs (length, smallest log, number of shortest logs)."""
+    return shortest_words(signs, range(len(web[1])), lambda row, index: slow_says(web, row, (index,)))
+
+
+def all_groups(size):
+    """All ascending tuples of people, ascending."""
+    people = range(1, size + 1)
+    return sorted(group for many in range(size + 1) for group in itertools.combinations(people, many))
+
+
+def as_ratio(number):
+    """A fraction as the package gives it."""
+    return number.numerator, number.denominator
+
+
+def fractions_of(odds):
+    """Odds as fractions."""
+    return [Fraction(top, bottom) for top, bottom in odds]
+
+
+def some_odds(seed, many):
+    """Odds of so many things by chance."""
+    chance = random.Random(seed)
+    whole = chance.randint(max(many, 1), 60)
+    cuts = sorted(chance.sample(range(1, whole), many - 1)) if many else []
+    return tuple(as_ratio(Fraction(end - start, whole)) for start, end in zip([0] + cuts, cuts + [whole]))[:many]
 
 
 def error_of(function, arguments):

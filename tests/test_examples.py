@@ -55,6 +55,35 @@ EXAMPLES = {
 >>> [web_ring(web, (0, 1)), trace(web, (0, 1), 3), left_over(web, (1, 0)), needless_entries(web, (0, 0))]
 [(1, 1, 1), (0, 1), (1, 2), (0, 1)]
 """,
+    "goals": """
+>>> from bellcopies.goals import log_to, reached_count
+>>> web = (3, ((1, 2), (2, 3)))
+>>> [log_to(web, (1, 1, 1)), log_to(web, (2, 2, 3)), reached_count(web)]
+[(0, 1), None, 5]
+""",
+    "winning": """
+>>> from bellcopies.winning import closed_count, least_left, springs, win_log, winners
+>>> web = (3, ((1, 2), (2, 3)))
+>>> [winners(web), win_log(web, 1), springs(web), closed_count(web), least_left((3, ((1, 2),)))]
+[(1,), (0, 1), ((1,),), 4, 2]
+""",
+    "cheapest": """
+>>> from bellcopies.cheapest import cheap_win, shows_cheap_paper
+>>> web = (2, ((1, 2),))
+>>> [cheap_win(web, (3,), 1), shows_cheap_paper(web, (3,), 1, (((2,), 3),))]
+[(3, (0,)), True]
+""",
+    "beats": """
+>>> from bellcopies.beats import beat_win, beats_to
+>>> web = (3, ((1, 2), (2, 3)))
+>>> [beat_win(web, 1), beats_to(web, (1, 1, 2))]
+[2, 1]
+""",
+    "hearings": """
+>>> from bellcopies.hearings import first_unfit, fitting, surely
+>>> [fitting((((1, 2, 3), (1, 1, 2)),)), first_unfit((((1, 2), (2, 2)),)), surely((((1, 1, 2), (1, 1, 1)),))]
+[((1, 1, 2),), 1, (1, None, None)]
+""",
 }
 
 

@@ -38,6 +38,17 @@ INTERFACE = {
         "web_ring(web, log)", "web_said(web, signs, log)", "trace(web, log, person)", "left_over(web, log)",
         "needless_entries(web, log)",
     ),
+    "goals": ("log_to(web, goal)", "reached_count(web)", "log_count(web, goal, many)"),
+    "winning": (
+        "winners(web)", "win_log(web, person)", "springs(web)", "least_left(web)", "closed_count(web)", "parted(web)",
+        "shows_parted(web, value)",
+    ),
+    "cheapest": (
+        "cheap_win(web, prices, person)", "cheap_paper(web, prices, person)",
+        "shows_cheap_win(web, prices, person, value)", "shows_cheap_paper(web, prices, person, value)",
+    ),
+    "beats": ("beat_win(web, person)", "beats_to(web, goal)"),
+    "hearings": ("fitting(hearings)", "first_unfit(hearings)", "surely(hearings)"),
 }
 
 

@@ -6,15 +6,7 @@ import unittest
 
 from bellcopies.webs import left_over, needless_entries, trace, web_ring, web_said
 from tests.kinds import ARCS
-
-
-def slow_says(web, signs, log):
-    """What is said in the end, by the person."""
-    size, arcs = web
-    says = dict(zip(range(1, size + 1), signs))
-    for index in log:
-        says[arcs[index][1]] = says[arcs[index][0]]
-    return tuple(says[person] for person in range(1, size + 1))
+from tests.support import slow_says
 
 
 def slow_ways(web, log):

@@ -3,8 +3,10 @@
 import copy
 import unittest
 
-from bellcopies import alike, climbs, moves, order, products, rings, rounds, rows, stairs, webs
-from bellcopies.errors import BellError
+from bellcopies import (
+    alike, beats, cheapest, climbs, goals, hearings, moves, order, products, rings, rounds, rows, stairs, webs, winning,
+)
+from bellcopies.errors import BellError, TooMany
 from tests import kinds
 from tests.support import error_of, strange_values
 
@@ -75,6 +77,36 @@ CALLS = (
     (webs.trace, kinds.WEB, kinds.LOG, kinds.PERSON),
     (webs.left_over, kinds.WEB, kinds.LOG),
     (webs.needless_entries, kinds.WEB, kinds.LOG),
+    (goals.log_to, kinds.WEB, kinds.goal_of(3)),
+    (goals.reached_count, kinds.WEB),
+    (goals.log_count, kinds.WEB, kinds.goal_of(3), kinds.count_to(100)),
+    (winning.winners, kinds.WEB),
+    (winning.win_log, kinds.WEB, kinds.PERSON),
+    (winning.springs, kinds.WEB),
+    (winning.least_left, kinds.WEB),
+    (winning.closed_count, kinds.WEB),
+    (winning.parted, kinds.WEB),
+    (winning.shows_parted, kinds.WEB, ANYTHING),
+    (cheapest.cheap_win, kinds.WEB, kinds.prices_of(2), kinds.PERSON),
+    (cheapest.cheap_paper, kinds.WEB, kinds.prices_of(2), kinds.PERSON),
+    (cheapest.shows_cheap_win, kinds.WEB, kinds.prices_of(2), kinds.PERSON, ANYTHING),
+    (cheapest.shows_cheap_paper, kinds.WEB, kinds.prices_of(2), kinds.PERSON, ANYTHING),
+    (beats.beat_win, kinds.WEB, kinds.PERSON),
+    (beats.beats_to, kinds.WEB, kinds.goal_of(3)),
+    (hearings.fitting, kinds.hearings_of(3)),
+    (hearings.first_unfit, kinds.hearings_of(3)),
+    (hearings.surely, kinds.hearings_of(3)),
+)
+
+# Functions, the most that they allow, and kinds whose good values are one more than that.
+TOO_MANY = (
+    (goals.log_to, 4, kinds.web_of(5), kinds.goal_of(5)),
+    (goals.reached_count, 4, kinds.web_of(5)),
+    (goals.log_count, 4, kinds.web_of(5), kinds.goal_of(5), kinds.count_to(100)),
+    (beats.beats_to, 4, kinds.web_of(5), kinds.goal_of(5)),
+    (hearings.fitting, 6, kinds.hearings_of(7)),
+    (hearings.first_unfit, 6, kinds.hearings_of(7)),
+    (hearings.surely, 6, kinds.hearings_of(7)),
 )
 
 
@@ -108,6 +140,26 @@ class WrongInputs(unittest.TestCase):
                             arguments[at] = bad
                             arguments[later] = bad_too
                             self.check_error(function, arguments, error, fields)
+
+    def test_too_many(self):
+        for function, most, *wanted in TOO_MANY:
+            arguments = [good for good, _ in wanted]
+            self.check_error(function, arguments, TooMany, {"most": most})
+
+    def test_too_many_comes_behind_each_other_error(self):
+        for function, _, *wanted in TOO_MANY:
+            for at, (_, bads) in enumerate(wanted):
+                for bad, error, fields in bads:
+                    arguments = [good for good, _ in wanted]
+                    arguments[at] = bad
+                    self.check_error(function, arguments, error, fields)
+
+    def test_too_many_with_any_last_value_of_shows(self):
+        for function, most, *wanted in TOO_MANY:
+            if wanted[-1] is ANYTHING:
+                for value in strange_values():
+                    arguments = [good for good, _ in wanted[:-1]] + [value]
+                    self.check_error(function, arguments, TooMany, {"most": most})
 
     def test_bad_arguments_beside_strange_last_values(self):
         for function, *wanted in CALLS:
