@@ -84,6 +84,41 @@ EXAMPLES = {
 >>> [fitting((((1, 2, 3), (1, 1, 2)),)), first_unfit((((1, 2), (2, 2)),)), surely((((1, 1, 2), (1, 1, 1)),))]
 [((1, 1, 2),), 1, (1, None, None)]
 """,
+    "starts": """
+>>> from bellcopies.starts import best_starts, fewest_starts, tells_all
+>>> [fewest_starts(2, 2), best_starts(2, 2), tells_all(3, ((1, 2, 3),))]
+[1, ((0, 1),), True]
+""",
+    "patterns": """
+>>> from bellcopies.patterns import pattern_log, patterns
+>>> web = (3, ((1, 2), (2, 3)))
+>>> [patterns(web, (1, 2, 2)), pattern_log(web, (1, 2, 2), (1, 1, 1))]
+[((1, 1, 1), (1, 1, 2), (1, 2, 2)), (0, 1)]
+""",
+    "odds": """
+>>> from bellcopies.odds import mean_wait, stair_chances, visit_chance
+>>> half = ((1, 2), (1, 2))
+>>> [mean_wait(3, half, 3), visit_chance(3, half, (1, 1, 2)), stair_chances(2, ((1, 1),), 1)]
+[(4, 1), (1, 2), (((1, 1), (1, 1)),)]
+""",
+    "drift": """
+>>> from bellcopies.drift import mean_agreed, still_said, win_chances
+>>> half = ((1, 2), (1, 2))
+>>> web = (3, ((1, 2), (2, 3)))
+>>> [win_chances((2, ((1, 2), (2, 1))), half), mean_agreed(web, half), still_said(web, half, 1)]
+[((1, 2), (1, 2)), (4, 1), (2, 1)]
+""",
+    "times": """
+>>> from bellcopies.times import earliest, latest_start, timed_path
+>>> web = (3, ((1, 2), (2, 3)))
+>>> [earliest(web, ((2, 3), (0, 1)), 1), latest_start(web, ((2, 3), (0, 9)), 1), timed_path((2, ((1, 2),)), ((2, 3),), 1, 2)]
+[(0, 2, None), 3, ((0, 2),)]
+""",
+    "hindering": """
+>>> from bellcopies.hindering import hinder, ways_apart
+>>> [hinder((2, ((1, 2),)), 1, 2), ways_apart((3, ((1, 2), (2, 3))), 1, 3)]
+[(0,), ((0, 1),)]
+""",
 }
 
 

@@ -49,6 +49,21 @@ INTERFACE = {
     ),
     "beats": ("beat_win(web, person)", "beats_to(web, goal)"),
     "hearings": ("fitting(hearings)", "first_unfit(hearings)", "surely(hearings)"),
+    "starts": (
+        "tells_all(size, starts)", "shows_not_told(size, starts, value)", "not_told(size, starts)",
+        "fewest_starts(size, kinds)", "best_starts(size, kinds)",
+    ),
+    "patterns": ("web_fitting(web, hearings)", "patterns(web, signs)", "pattern_log(web, signs, goal)"),
+    "odds": ("stair_chances(size, odds, many)", "mean_wait(size, odds, person)", "visit_chance(size, odds, stair)"),
+    "drift": ("win_chances(web, odds)", "still_said(web, odds, many)", "mean_agreed(web, odds)"),
+    "times": (
+        "earliest(web, times, person)", "latest_start(web, times, person)", "timed_path(web, times, person, goal)",
+        "shows_timed_path(web, times, person, goal, value)",
+    ),
+    "hindering": (
+        "hinder(web, person, goal)", "ways_apart(web, person, goal)", "shows_hinder(web, person, goal, value)",
+        "shows_ways_apart(web, person, goal, value)",
+    ),
 }
 
 

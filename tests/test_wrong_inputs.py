@@ -4,7 +4,8 @@ import copy
 import unittest
 
 from bellcopies import (
-    alike, beats, cheapest, climbs, goals, hearings, moves, order, products, rings, rounds, rows, stairs, webs, winning,
+    alike, beats, cheapest, climbs, drift, goals, hearings, hindering, moves, odds, order, patterns, products, rings,
+    rounds, rows, stairs, starts, times, webs, winning,
 )
 from bellcopies.errors import BellError, TooMany
 from tests import kinds
@@ -96,6 +97,28 @@ CALLS = (
     (hearings.fitting, kinds.hearings_of(3)),
     (hearings.first_unfit, kinds.hearings_of(3)),
     (hearings.surely, kinds.hearings_of(3)),
+    (starts.tells_all, kinds.SIZE, kinds.starts_of(3)),
+    (starts.not_told, kinds.SIZE, kinds.starts_of(3)),
+    (starts.shows_not_told, kinds.SIZE, kinds.starts_of(3), ANYTHING),
+    (starts.fewest_starts, kinds.SIZE, kinds.KINDS),
+    (starts.best_starts, kinds.SIZE, kinds.KINDS),
+    (patterns.web_fitting, kinds.WEB, kinds.web_hearings(3)),
+    (patterns.patterns, kinds.WEB, kinds.WEB_SIGNS),
+    (patterns.pattern_log, kinds.WEB, kinds.WEB_SIGNS, kinds.WEB_SIGNS),
+    (odds.stair_chances, kinds.SIZE, kinds.odds_of(2), kinds.count_to(8)),
+    (odds.mean_wait, kinds.SIZE, kinds.odds_of(2), kinds.PERSON),
+    (odds.visit_chance, kinds.SIZE, kinds.odds_of(2), kinds.stair_of(3)),
+    (drift.win_chances, kinds.WEB, kinds.odds_of(2)),
+    (drift.still_said, kinds.WEB, kinds.odds_of(2), kinds.count_to(8)),
+    (drift.mean_agreed, kinds.WEB, kinds.odds_of(2)),
+    (times.earliest, kinds.WEB, kinds.times_of(2), kinds.PERSON),
+    (times.latest_start, kinds.WEB, kinds.times_of(2), kinds.PERSON),
+    (times.timed_path, kinds.WEB, kinds.times_of(2), kinds.PERSON, kinds.PERSON),
+    (times.shows_timed_path, kinds.WEB, kinds.times_of(2), kinds.PERSON, kinds.PERSON, ANYTHING),
+    (hindering.hinder, kinds.WEB, kinds.PERSON, kinds.UNLIKE),
+    (hindering.ways_apart, kinds.WEB, kinds.PERSON, kinds.UNLIKE),
+    (hindering.shows_hinder, kinds.WEB, kinds.PERSON, kinds.UNLIKE, ANYTHING),
+    (hindering.shows_ways_apart, kinds.WEB, kinds.PERSON, kinds.UNLIKE, ANYTHING),
 )
 
 # Functions, the most that they allow, and kinds whose good values are one more than that.
@@ -107,6 +130,18 @@ TOO_MANY = (
     (hearings.fitting, 6, kinds.hearings_of(7)),
     (hearings.first_unfit, 6, kinds.hearings_of(7)),
     (hearings.surely, 6, kinds.hearings_of(7)),
+    (starts.tells_all, 5, kinds.size_of(6), kinds.starts_of(6)),
+    (starts.not_told, 5, kinds.size_of(6), kinds.starts_of(6)),
+    (starts.shows_not_told, 5, kinds.size_of(6), kinds.starts_of(6), ANYTHING),
+    (starts.fewest_starts, 4, kinds.size_of(5), kinds.KINDS),
+    (starts.best_starts, 4, kinds.size_of(5), kinds.KINDS),
+    (patterns.web_fitting, 4, kinds.web_of(5), kinds.web_hearings(5)),
+    (patterns.patterns, 4, kinds.web_of(5), kinds.web_signs(5)),
+    (patterns.pattern_log, 4, kinds.web_of(5), kinds.web_signs(5), kinds.web_signs(5)),
+    (odds.stair_chances, 5, kinds.size_of(6), kinds.odds_of(5), kinds.count_to(8)),
+    (odds.visit_chance, 5, kinds.size_of(6), kinds.odds_of(5), kinds.stair_of(6)),
+    (drift.still_said, 4, kinds.web_of(5), kinds.odds_of(4), kinds.count_to(8)),
+    (drift.mean_agreed, 3, kinds.web_of(4), kinds.odds_of(3)),
 )
 
 
