@@ -41,6 +41,16 @@ def cheapest_win(web, prices, person):
     return None
 
 
+def is_log_for(web, prices, price, row, value):
+    """Whether a value is a pair of this price and of a log that costs just so much and makes this row."""
+    if not isinstance(value, tuple) or len(value) != 2:
+        return False
+    cost, log = value
+    if not is_whole(cost, price, price) or not is_row(log, 0, 60, 0, len(web[1]) - 1):
+        return False
+    return sum([prices[index] for index in log]) == price and logged(web, at_first(web[0]), log) == row
+
+
 def weighted_sets(web, prices, person):
     """The list of the pairs (people, weight) of a paper, for a person who can win."""
     size, arcs = web
@@ -98,14 +108,7 @@ def shows_cheap_win(web, prices, person, value):
     best = cheapest_win(web, prices, person)
     if best is None:
         return value is None
-    if not isinstance(value, tuple) or len(value) != 2:
-        return False
-    price, log = value
-    if not is_whole(price, best[0], best[0]) or not is_row(log, 0, 60, 0, len(web[1]) - 1):
-        return False
-    if sum([prices[index] for index in log]) != price:
-        return False
-    return logged(web, at_first(web[0]), log) == (person,) * web[0]
+    return is_log_for(web, prices, best[0], (person,) * web[0], value)
 
 
 def shows_cheap_paper(web, prices, person, value):

@@ -131,6 +131,14 @@ def followed(one, other):
     return tuple([one[number - 1] for number in other])
 
 
+def repeated(row, many):
+    """The row behind so many times what makes this row."""
+    now = at_first(len(row))
+    for _ in range(many):
+        now = followed(now, row)
+    return now
+
+
 def times_to_rest(row):
     """The least number of times behind which one time more changes nothing."""
     times = 0

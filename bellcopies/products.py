@@ -1,7 +1,7 @@
 """Stairs one after another (point 6)."""
 
 from bellcopies.common import at_first, check_count, check_size, check_stair, check_two_stairs, followed
-from bellcopies.common import smallest_way, times_to_rest
+from bellcopies.common import repeated, smallest_way, times_to_rest
 from bellcopies.rows import behind
 from bellcopies.stairs import all_stairs
 
@@ -21,10 +21,7 @@ def power(stair, many):
     """The stair of so many times bells of a stair."""
     check_stair(stair)
     check_count(many, 100)
-    row = at_first(len(stair))
-    for _ in range(many):
-        row = followed(row, stair)
-    return row
+    return repeated(stair, many)
 
 
 def rest_of(stair):

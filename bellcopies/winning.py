@@ -10,12 +10,15 @@ def winners_of(web):
     return [person for person in range(1, size + 1) if len(reach(arcs, [person])) == size]
 
 
+def closed_around(web, people):
+    """The ascending list of the people of the least closed set that has all of these."""
+    turned = [(taker, source) for source, taker in web[1]]
+    return reach(turned, people)
+
+
 def springs_of(web):
     """The ascending list of the springs."""
-    size, arcs = web
-    turned = [(taker, source) for source, taker in arcs]
-    # For each person the least closed set around it.
-    closures = [reach(turned, [person]) for person in range(1, size + 1)]
+    closures = [closed_around(web, [person]) for person in range(1, web[0] + 1)]
     found = []
     for people in closures:
         if tuple(people) not in found and all(closures[person - 1] == people for person in people):
@@ -34,6 +37,11 @@ def all_groups(size):
     for person in range(1, size + 1):
         groups = groups + [group + (person,) for group in groups]
     return groups
+
+
+def closed_groups(web):
+    """The list of all closed ascending tuples of people, in no order."""
+    return [group for group in all_groups(web[0]) if not led_into(web, group)]
 
 
 def is_closed_group(web, value):
@@ -81,7 +89,7 @@ def least_left(web):
 def closed_count(web):
     """The number of closed sets of people, the empty one and that of all too."""
     check_web(web)
-    return len([group for group in all_groups(web[0]) if not led_into(web, group)])
+    return len(closed_groups(web))
 
 
 def parted(web):

@@ -5,8 +5,8 @@ values fit together: they are for 3 people, or for as many as a kind is asked fo
 """
 
 from bellcopies.errors import (
-    BadBells, BadCount, BadGoal, BadHearings, BadLift, BadLog, BadMoves, BadOdds, BadPair, BadPerson, BadPrices,
-    BadRising, BadSigns, BadSize, BadStair, BadStarts, BadTimes, BadWeb,
+    BadArc, BadBells, BadCount, BadGoal, BadGroup, BadHearings, BadLift, BadLog, BadMoves, BadOdds, BadPair, BadPerson,
+    BadPrices, BadRising, BadSign, BadSigns, BadSize, BadStair, BadStarts, BadTimes, BadWeb, InvalidText, NotText,
 )
 from tests.support import NOT_INTEGERS, NOT_TUPLES, with_bad_entries
 
@@ -44,7 +44,13 @@ SIGNS = kind((5, 0, 99), BadSigns, NOT_TUPLES + with_bad_entries((5, 0, 99)) + (
     (), (5,), (1,) * 9, (-1, 0, 0), (0, 0, 100), (HUGE, 0, 0), ((5, 0, 99),),
 ))
 
-PERSON = kind(2, BadPerson, NOT_INTEGERS + (-1, 0, 4, HUGE, -HUGE))
+
+def person_of(size):
+    """The kind of a person of so many."""
+    return kind(2, BadPerson, NOT_INTEGERS + (-1, 0, size + 1, HUGE, -HUGE))
+
+
+PERSON = person_of(3)
 
 # The last person of a climb is 2, so that 3 cannot be the first one, nor 1 the last one.
 FIRST = kind(2, BadPerson, NOT_INTEGERS + (-1, 0, 3, 4, HUGE, -HUGE))
@@ -245,3 +251,19 @@ def times_of(many):
 
 # The other person of two unlike ones, of whom the first is 2.
 UNLIKE = kind(3, BadPerson, tuple(bad for bad, _, _ in PERSON[1]) + (2,))
+
+ARC = kind(1, BadArc, NOT_INTEGERS + (-1, -2, 2, HUGE, -HUGE))
+
+SIGN = kind(9, BadSign, NOT_INTEGERS + (-1, 0, 100, HUGE, -HUGE))
+
+GROUP = kind((1, 3), BadGroup, NOT_TUPLES + with_bad_entries((1, 3)) + (
+    (0,), (4,), (-1,), (HUGE,), (3, 1), (1, 1), (1, 2, 2), (1, 3, 2), (1, 2, 3, 4), (0, 1, 2), (2, 3, 4), ((1, 3),),
+    ((),),
+))
+
+TEXT = ("3 : 1>2", tuple((bad, NotText, {}) for bad in NOT_INTEGERS + NOT_TUPLES if not isinstance(bad, str)) + tuple(
+    (bad, InvalidText, {"place": place}) for bad, place in (
+        ("", 0), ("  ", 2), ("abc", 0), ("\u00e9", 0), ("7", 0), ("03", 0), ("3 2", 2), ("3 :", 3), ("3 : 1>1", 6),
+        ("3 : 1>2 , 1>2", 12), ("3\t: 1>2", 1), ("3 : 1>2\n", 7),
+    )
+))

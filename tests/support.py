@@ -127,6 +127,43 @@ def some_webs(seed, many, sizes):
         yield size, tuple(chance.sample(arcs, chance.randint(0, min(12, len(arcs)))))
 
 
+def priced(webs, seed):
+    """The webs with prices by chance: some low ones, so that many are alike, and high ones."""
+    chance = random.Random(seed)
+    for web in webs:
+        for most in (0, 3, 1000):
+            yield web, tuple(chance.randint(0, most) for _ in web[1])
+
+
+def least_prices(web, prices):
+    """A dict from each row that logs reach to the least price, by trying all entries until nothing changes."""
+    found = {people_of(web): 0}
+    changed = True
+    while changed:
+        changed = False
+        for row in list(found):
+            for index, price in enumerate(prices):
+                new = slow_says(web, row, (index,))
+                if new not in found or found[row] + price < found[new]:
+                    found[new] = found[row] + price
+                    changed = True
+    return found
+
+
+def least_price(web, prices, person):
+    """The least price to win, as that of the cheapest choice of an arc to each other person, None if there is none."""
+    others = [other for other in people_of(web) if other != person]
+    best = None
+    for choice in itertools.product(*([at for at, arc in enumerate(web[1]) if arc[1] == other] for other in others)):
+        found = {person}
+        for _ in others:
+            found |= {web[1][index][1] for index in choice if web[1][index][0] in found}
+        if len(found) == web[0]:
+            price = sum(prices[index] for index in choice)
+            best = price if best is None else min(best, price)
+    return best
+
+
 def shortest_logs(web, signs):
     """For each row that logs make of these signs (length, smallest log, number of shortest logs)."""
     return shortest_words(signs, range(len(web[1])), lambda row, index: slow_says(web, row, (index,)))

@@ -5,44 +5,8 @@ import random
 import unittest
 
 from bellcopies.cheapest import cheap_paper, cheap_win, shows_cheap_paper, shows_cheap_win
-from tests.support import all_groups, arcs_among, people_of, slow_says, small_webs, some_webs, strange_values
-
-
-def priced(webs, seed):
-    """The webs with prices by chance: some low ones, so that many are alike, and high ones."""
-    chance = random.Random(seed)
-    for web in webs:
-        for most in (0, 3, 1000):
-            yield web, tuple(chance.randint(0, most) for _ in web[1])
-
-
-def least_prices(web, prices):
-    """A dict from each row that logs reach to the least price, by trying all entries until nothing changes."""
-    found = {people_of(web): 0}
-    changed = True
-    while changed:
-        changed = False
-        for row in list(found):
-            for index, price in enumerate(prices):
-                new = slow_says(web, row, (index,))
-                if new not in found or found[row] + price < found[new]:
-                    found[new] = found[row] + price
-                    changed = True
-    return found
-
-
-def least_price(web, prices, person):
-    """The least price to win, as that of the cheapest choice of an arc to each other person, None if there is none."""
-    others = [other for other in people_of(web) if other != person]
-    best = None
-    for choice in itertools.product(*([at for at, arc in enumerate(web[1]) if arc[1] == other] for other in others)):
-        found = {person}
-        for _ in others:
-            found |= {web[1][index][1] for index in choice if web[1][index][0] in found}
-        if len(found) == web[0]:
-            price = sum(prices[index] for index in choice)
-            best = price if best is None else min(best, price)
-    return best
+from tests.support import all_groups, arcs_among, least_price, least_prices, people_of, priced, slow_says, small_webs
+from tests.support import some_webs, strange_values
 
 
 def slow_shows_win(web, prices, person, value, best):

@@ -3,6 +3,9 @@
 import doctest
 import unittest
 
+from bellcopies.errors import InvalidText
+from bellcopies.webtext import read_web
+
 EXAMPLES = {
     "rows": """
 >>> from bellcopies.rows import ring, said, sayings
@@ -119,6 +122,34 @@ EXAMPLES = {
 >>> [hinder((2, ((1, 2),)), 1, 2), ways_apart((3, ((1, 2), (2, 3))), 1, 3)]
 [(0,), ((0, 1),)]
 """,
+    "again": """
+>>> from bellcopies.again import kept_signs, log_classes, log_rest, sorted_log
+>>> far = (4, ((1, 2), (3, 4)))
+>>> [sorted_log(far, (1, 0)), log_classes(far, 2), log_rest((3, ((1, 2), (2, 3))), (1, 0)), kept_signs((3, ((1, 2), (2, 3))), (0, 1))]
+[(0, 1), 3, (2, 1), (1,)]
+""",
+    "hands": """
+>>> from bellcopies.hands import forced_win
+>>> forced_win((3, ((1, 2), (2, 3))), 1, 9)
+3
+""",
+    "webtext": """
+>>> from bellcopies.webtext import read_web, write_web
+>>> [write_web((3, ((1, 2), (2, 3)))), read_web('3:1>2')]
+['3 : 1>2 , 2>3', (3, ((1, 2),))]
+""",
+    "choirs": """
+>>> from bellcopies.choirs import Choir
+>>> choir = Choir((3, ((1, 2), (2, 3))))
+>>> [choir.take(0), choir.speak(1, 9), choir.take(0), choir.log(), choir.undo(), choir.says()]
+[(1, 1, 3), None, (9, 9, 3), (0, 0), None, (9, 1, 3)]
+""",
+    "groups": """
+>>> from bellcopies.groups import cheap_agreement, closed_sets, closure, inside, spreads
+>>> web = (2, ((1, 2),))
+>>> [closed_sets(web), closure(web, (2,)), inside(web, (2,)), spreads(web, (0,)), cheap_agreement(web, (5,))]
+[((), (1,), (1, 2)), (1, 2), (), ((1, 1), (2, 0)), (5, 1, (0,))]
+""",
 }
 
 
@@ -131,3 +162,8 @@ class Examples(unittest.TestCase):
                 told = []
                 result = doctest.DocTestRunner(verbose=False).run(example, out=told.append)
                 self.assertEqual(result.failed, 0, "".join(told))
+
+    def test_the_example_that_raises(self):
+        with self.assertRaises(InvalidText) as caught:
+            read_web('3 : 1>1')
+        self.assertEqual(caught.exception.place, 6)

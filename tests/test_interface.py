@@ -64,6 +64,21 @@ INTERFACE = {
         "hinder(web, person, goal)", "ways_apart(web, person, goal)", "shows_hinder(web, person, goal, value)",
         "shows_ways_apart(web, person, goal, value)",
     ),
+    "again": (
+        "log_power(web, log, many)", "kept_signs(web, log)", "sorted_log(web, log)", "log_rest(web, log)",
+        "log_classes(web, many)",
+    ),
+    "hands": ("forced_win(web, person, many)",),
+    "webtext": ("write_web(web)", "read_web(text)"),
+    "choirs": ("Choir(web)",),
+    "groups": (
+        "closed_sets(web)", "spreads(web, log)", "closure(web, some)", "inside(web, some)",
+        "cheap_agreement(web, prices)", "shows_agreement(web, prices, value)",
+    ),
+}
+
+METHODS = {
+    "choirs.Choir": ("take(self, index)", "says(self)", "log(self)", "speak(self, person, sign)", "undo(self)"),
 }
 
 
@@ -77,3 +92,12 @@ class Interface(unittest.TestCase):
                     function = getattr(found, name)
                     self.assertEqual(function.__module__, f"bellcopies.{module}")
                     self.assertEqual(f"{name}{inspect.signature(function)}", line)
+
+    def test_each_method_stands_in_its_class_with_its_arguments(self):
+        for name, lines in METHODS.items():
+            module, _, class_name = name.partition(".")
+            found = vars(getattr(importlib.import_module(f"bellcopies.{module}"), class_name))
+            for line in lines:
+                with self.subTest(name=name, line=line):
+                    method = line.partition("(")[0]
+                    self.assertEqual(f"{method}{inspect.signature(found[method])}", line)

@@ -4,8 +4,8 @@ import copy
 import unittest
 
 from bellcopies import (
-    alike, beats, cheapest, climbs, drift, goals, hearings, hindering, moves, odds, order, patterns, products, rings,
-    rounds, rows, stairs, starts, times, webs, winning,
+    again, alike, beats, cheapest, choirs, climbs, drift, goals, groups, hands, hearings, hindering, moves, odds, order,
+    patterns, products, rings, rounds, rows, stairs, starts, times, webs, webtext, winning,
 )
 from bellcopies.errors import BellError, TooMany
 from tests import kinds
@@ -13,6 +13,22 @@ from tests.support import error_of, strange_values
 
 # What may stand last in a call of a function whose name begins with `shows`: nothing is bad there.
 ANYTHING = (None, ())
+
+
+def choir_says(web):
+    """What a new choir says, which is the same at each call."""
+    return choirs.Choir(web).says()
+
+
+def choir_takes(web, index):
+    """What a new choir says behind an arc."""
+    return choirs.Choir(web).take(index)
+
+
+def choir_speaks(web, person, sign):
+    """What comes of a person of a new choir saying a sign of its own."""
+    return choirs.Choir(web).speak(person, sign)
+
 
 CALLS = (
     (rows.ring, kinds.SIZE, kinds.BELLS),
@@ -119,6 +135,23 @@ CALLS = (
     (hindering.ways_apart, kinds.WEB, kinds.PERSON, kinds.UNLIKE),
     (hindering.shows_hinder, kinds.WEB, kinds.PERSON, kinds.UNLIKE, ANYTHING),
     (hindering.shows_ways_apart, kinds.WEB, kinds.PERSON, kinds.UNLIKE, ANYTHING),
+    (again.log_power, kinds.WEB, kinds.LOG, kinds.count_to(100)),
+    (again.log_rest, kinds.WEB, kinds.LOG),
+    (again.kept_signs, kinds.WEB, kinds.LOG),
+    (again.sorted_log, kinds.WEB, kinds.LOG),
+    (again.log_classes, kinds.WEB, kinds.count_to(5)),
+    (hands.forced_win, kinds.WEB, kinds.PERSON, kinds.count_to(60)),
+    (webtext.write_web, kinds.WEB),
+    (webtext.read_web, kinds.TEXT),
+    (choir_says, kinds.WEB),
+    (choir_takes, kinds.WEB, kinds.ARC),
+    (choir_speaks, kinds.WEB, kinds.PERSON, kinds.SIGN),
+    (groups.closed_sets, kinds.WEB),
+    (groups.closure, kinds.WEB, kinds.GROUP),
+    (groups.inside, kinds.WEB, kinds.GROUP),
+    (groups.spreads, kinds.WEB, kinds.LOG),
+    (groups.cheap_agreement, kinds.WEB, kinds.prices_of(2)),
+    (groups.shows_agreement, kinds.WEB, kinds.prices_of(2), ANYTHING),
 )
 
 # Functions, the most that they allow, and kinds whose good values are one more than that.
@@ -142,6 +175,7 @@ TOO_MANY = (
     (odds.visit_chance, 5, kinds.size_of(6), kinds.odds_of(5), kinds.stair_of(6)),
     (drift.still_said, 4, kinds.web_of(5), kinds.odds_of(4), kinds.count_to(8)),
     (drift.mean_agreed, 3, kinds.web_of(4), kinds.odds_of(3)),
+    (hands.forced_win, 3, kinds.web_of(4), kinds.person_of(4), kinds.count_to(60)),
 )
 
 
