@@ -83,8 +83,8 @@ def log_classes(web, many):
     counts = [1]
     for entries in range(1, many + 1):
         total = 0
-        # Several arcs may be able to begin a class, so that by the sets of two it counts too often,
-        # by those of three too seldom, and so on.
+        # A class that several arcs can begin counts once for each of them: the sets of two take back
+        # what is too much, those of three give back what is too much of that, and so on.
         for some in sets:
             if 1 <= len(some) <= entries:
                 classes = counts[entries - len(some)]

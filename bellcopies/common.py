@@ -5,10 +5,15 @@ from math import gcd, lcm
 from bellcopies.errors import BadBells, BadCount, BadOdds, BadPair, BadPerson, BadSigns, BadSize, BadStair
 
 
+def is_number(value):
+    """Whether a value is an integer."""
+    # Python counts True and False as integers, the document does not.
+    return isinstance(value, int) and not isinstance(value, bool)
+
+
 def is_whole(value, least, most):
     """Whether a value is an integer from least to most."""
-    # Python counts True and False as integers, the document does not.
-    return isinstance(value, int) and not isinstance(value, bool) and least <= value <= most
+    return is_number(value) and least <= value <= most
 
 
 def is_row(value, fewest, longest, least, most):
@@ -86,7 +91,7 @@ def check_pair(one, other):
 
 def check_odds(odds, many):
     """Raise BadOdds unless these are odds for so many things."""
-    if not isinstance(odds, tuple) or len(odds) != many or not all(is_part(entry) for entry in odds):
+    if not are_ratios(odds, many) or any(top <= 0 or bottom > 60 for top, bottom in odds):
         raise BadOdds("odds are a tuple of ratios greater than 0 with bottoms of at most 60, one for each thing")
     weights, whole = weights_of(odds)
     # Odds for nothing at all are allowed, and have no sum of 1.
@@ -94,18 +99,24 @@ def check_odds(odds, many):
         raise BadOdds("the sum of odds is 1")
 
 
-def is_part(value):
-    """Whether a value is a ratio that may stand in odds."""
-    # What sums up to 1 has no top greater than its bottom.
-    return is_row(value, 2, 2, 1, 60) and gcd(value[0], value[1]) == 1
+def is_ratio(value):
+    """Whether a value is a ratio."""
+    if not isinstance(value, tuple) or len(value) != 2 or not is_number(value[0]) or not is_number(value[1]):
+        return False
+    return value[1] > 0 and gcd(value[0], value[1]) == 1
 
 
-def weights_of(odds):
-    """The pair of the list of integers that these odds are over one bottom, and this bottom."""
+def are_ratios(value, many):
+    """Whether a value is a tuple of so many ratios."""
+    return isinstance(value, tuple) and len(value) == many and all(is_ratio(part) for part in value)
+
+
+def weights_of(ratios):
+    """The pair of the list of integers that these ratios are over one bottom, and this bottom."""
     whole = 1
-    for _, bottom in odds:
+    for _, bottom in ratios:
         whole = lcm(whole, bottom)
-    return [top * (whole // bottom) for top, bottom in odds], whole
+    return [top * (whole // bottom) for top, bottom in ratios], whole
 
 
 def ratio(top, bottom):
@@ -172,6 +183,27 @@ def smallest_way(start, is_goal, choices, after):
                     following.append((way + (choice,), new))
         level = following
     return None
+
+
+def cheapest_ways(start, priced, after, most):
+    """A dict from each state to the pair (price, way) of a cheapest way of at most so many choices to it.
+
+    Priced is a list of pairs (choice, price); after(state, choice) gives the next state.
+    """
+    found = {start: (0, ())}
+    # What has become cheaper by the last choice: only from there something can become cheaper by one more.
+    level = {start: (0, ())}
+    for _ in range(most):
+        following = {}
+        for state, (price, way) in level.items():
+            for choice, more in priced:
+                new = after(state, choice)
+                best = following.get(new, found.get(new))
+                if best is None or price + more < best[0]:
+                    following[new] = (price + more, way + (choice,))
+        found.update(following)
+        level = following
+    return found
 
 
 def weigh_steps(start, choices, after, many):

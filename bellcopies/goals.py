@@ -5,9 +5,14 @@ from bellcopies.errors import BadGoal
 from bellcopies.webs import check_people, check_web, logged, next_rows
 
 
+def is_goal_of(web, value):
+    """Whether a value is a goal of the web."""
+    return is_row(value, web[0], web[0], 1, web[0])
+
+
 def check_goal(web, goal):
     """Raise BadGoal unless this is a goal of the web."""
-    if not is_row(goal, web[0], web[0], 1, web[0]):
+    if not is_goal_of(web, goal):
         raise BadGoal("a goal is a tuple of as many people as there are")
 
 

@@ -15,42 +15,69 @@ def check_ends(web, person, goal):
 
 
 def way_over(arcs, person, goal):
-    """The indexes of the arcs of a shortest way, None if there is none; arcs is a dict from indexes to arcs."""
+    """The steps of a shortest way, None if there is none; arcs is a dict from steps to the arcs they lead over."""
 
     def is_goal(at):
         """Whether the way is at its goal."""
         return at == goal
 
-    def after(at, index):
-        """Where an arc leads, which may be nowhere."""
-        source, taker = arcs[index]
+    def after(at, step):
+        """Where a step leads, which may be nowhere."""
+        source, taker = arcs[step]
         return taker if source == at else at
 
-    return smallest_way(person, is_goal, list(arcs), after)
+    return smallest_way(person, is_goal, sorted(arcs), after)
 
 
-def turned_where(web, used):
-    """A dict from all indexes to the arcs, those in use turned."""
-    return {index: (arc[::-1] if used[index] else arc) for index, arc in enumerate(web[1])}
+def steps_left(web, rooms, stream):
+    """A dict from steps to arcs: over an arc with room left by its index, and back over one in use by -1 less it."""
+    steps = {}
+    for index, arc in enumerate(web[1]):
+        if stream[index] < rooms[index]:
+            steps[index] = arc
+        if stream[index] > 0:
+            steps[-1 - index] = arc[::-1]
+    return steps
 
 
-def arcs_in_use(web, person, goal):
-    """For each arc whether it is used, by as many ways from the person to the goal as can be apart."""
-    used = [False] * len(web[1])
-    indexes = way_over(turned_where(web, used), person, goal)
-    # A way over a turned arc takes its use back, and so makes room for one way more.
-    while indexes is not None:
-        used = [busy != (index in indexes) for index, busy in enumerate(used)]
-        indexes = way_over(turned_where(web, used), person, goal)
-    return used
+def send_along(rooms, stream, steps):
+    """Add to a stream as much as these steps, one after another, have room for."""
+    most = min([rooms[step] - stream[step] if step >= 0 else stream[-1 - step] for step in steps])
+    for step in steps:
+        if step >= 0:
+            stream[step] += most
+        else:
+            stream[-1 - step] -= most
+
+
+def strongest_stream(web, rooms, person, goal):
+    """For each arc how much streams over it, if as much as can be goes from the person to the goal.
+
+    The rooms tell for each arc how much it takes at most.
+    """
+    stream = [0] * len(web[1])
+    steps = way_over(steps_left(web, rooms, stream), person, goal)
+    # A step back over an arc takes back its use, and so makes room for more.
+    while steps is not None:
+        send_along(rooms, stream, steps)
+        steps = way_over(steps_left(web, rooms, stream), person, goal)
+    return stream
+
+
+def hindering_arcs(web, rooms, person, goal):
+    """The ascending tuple of arcs that hinder a sign on its way from the person to the goal.
+
+    They have as little room in all as such arcs can have.
+    """
+    steps = steps_left(web, rooms, strongest_stream(web, rooms, person, goal))
+    near = reach(list(steps.values()), [person])
+    # Each arc that leads out of these people is filled by the stream, which does not come back over any other.
+    return tuple([index for index, (source, taker) in enumerate(web[1]) if source in near and taker not in near])
 
 
 def fewest_arcs(web, person, goal):
     """The ascending tuple of as few arcs as can be that hinder a sign on its way from the person to the goal."""
-    used = arcs_in_use(web, person, goal)
-    near = reach(list(turned_where(web, used).values()), [person])
-    # Each arc that leads out of these people is used by a way, and by each way just one of them.
-    return tuple([index for index, (source, taker) in enumerate(web[1]) if source in near and taker not in near])
+    return hindering_arcs(web, [1] * len(web[1]), person, goal)
 
 
 def hinder(web, person, goal):
@@ -62,8 +89,8 @@ def hinder(web, person, goal):
 def ways_apart(web, person, goal):
     """As many ways from the person to the goal as can be without a common arc."""
     check_ends(web, person, goal)
-    used = arcs_in_use(web, person, goal)
-    left = {index: arc for index, arc in enumerate(web[1]) if used[index]}
+    stream = strongest_stream(web, [1] * len(web[1]), person, goal)
+    left = {index: arc for index, arc in enumerate(web[1]) if stream[index] > 0}
     ways = []
     indexes = way_over(left, person, goal)
     while indexes is not None:

@@ -7,15 +7,25 @@ from bellcopies.common import never_falls, smallest_way, times_to_rest
 from bellcopies.errors import BadMoves, BadRising, TooMany
 
 
+def are_moves(size, value):
+    """Whether a value is a row of moves for so many people."""
+    return is_row(value, 0, 40, 1 - size, size) and 0 not in value and 1 not in value
+
+
 def check_moves(size, moves):
     """Raise BadMoves unless these are moves for so many people."""
-    if not is_row(moves, 0, 40, 1 - size, size) or 0 in moves or 1 in moves:
+    if not are_moves(size, moves):
         raise BadMoves("moves are a tuple of at most 40 integers, each a person or less a person")
+
+
+def is_rising(value):
+    """Whether a value is a rising row."""
+    return is_row(value, 2, 8, 1, 8) and never_falls(value) and value[-1] <= len(value)
 
 
 def check_rising(rising):
     """Raise BadRising unless this is a rising row."""
-    if not is_row(rising, 2, 8, 1, 8) or not never_falls(rising) or rising[-1] > len(rising):
+    if not is_rising(rising):
         raise BadRising("a rising row never falls and has entries from 1 to its length")
 
 

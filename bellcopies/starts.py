@@ -4,13 +4,18 @@ from bellcopies.common import check_size, followed, is_row, is_stair, is_whole
 from bellcopies.errors import BadCount, BadStarts, TooMany
 
 
-def check_starts(size, starts):
-    """Raise an error unless these are a size and starts of it, and not too many people."""
-    check_size(size)
+def check_rows_of_signs(size, starts):
+    """Raise BadStarts unless these are at most 6 rows of signs of so many people."""
     if not isinstance(starts, tuple) or len(starts) > 6:
         raise BadStarts("starts are a tuple of at most 6 rows of signs")
     if not all(is_row(signs, size, size, 0, 99) for signs in starts):
         raise BadStarts("each start has a sign from 0 to 99 for each person")
+
+
+def check_starts(size, starts):
+    """Raise an error unless these are a size and starts of it, and not too many people."""
+    check_size(size)
+    check_rows_of_signs(size, starts)
     if size > 5:
         raise TooMany(5)
 

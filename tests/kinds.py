@@ -5,8 +5,9 @@ values fit together: they are for 3 people, or for as many as a kind is asked fo
 """
 
 from bellcopies.errors import (
-    BadArc, BadBells, BadCount, BadGoal, BadGroup, BadHearings, BadLift, BadLog, BadMoves, BadOdds, BadPair, BadPerson,
-    BadPrices, BadRising, BadSign, BadSigns, BadSize, BadStair, BadStarts, BadTimes, BadWeb, InvalidText, NotText,
+    BadArc, BadBells, BadChances, BadCount, BadGoal, BadGroup, BadHearings, BadLift, BadLog, BadMoves, BadOdds, BadPair,
+    BadPerson, BadPrices, BadRising, BadSign, BadSigns, BadSize, BadStair, BadStarts, BadTimes, BadWeb, InvalidText,
+    NotText,
 )
 from tests.support import NOT_INTEGERS, NOT_TUPLES, with_bad_entries
 
@@ -79,6 +80,13 @@ RISING = kind((1, 3, 3), BadRising, NOT_TUPLES + with_bad_entries((1, 3, 3)) + (
     (-HUGE, 1, 1), ((1, 3, 3),),
 ))
 SECOND_RISING = second(RISING, ((2, 2), (1, 2, 3, 4), (8,) * 8))
+
+
+def rising_of(size):
+    """The kind of a rising row of just this length."""
+    bads = tuple(bad for bad, _, _ in RISING[1])
+    return kind((2,) * size, BadRising, bads + tuple((2,) * other for other in range(2, 9) if other != size))
+
 
 RING_BELLS = kind((1, 3, 2), BadBells, NOT_TUPLES + with_bad_entries((1, 3, 2)) + (
     (0,), (4,), (-1,), (HUGE,), (2, 3, 4), (2, 0, 3), (1,) * 61, (2, 1) * 200, ((2, 1),),
@@ -155,8 +163,8 @@ def goal_of(size):
 
 
 def prices_of(many):
-    """The kind of prices of so many arcs."""
-    good = (0, 1000, 7, 1, 1000)[:many]
+    """The kind of prices of so many arcs or moves."""
+    good = ((0, 1000, 7, 1, 1000) * 2)[:many]
     return kind(good, BadPrices, NOT_TUPLES + with_bad_entries(good) + (
         (), good[1:], good + (1,), (-1,) + good[1:], (1001,) + good[1:], good[:-1] + (HUGE,), (-HUGE,) + good[1:],
         (good,), (1,) * 13,
@@ -236,6 +244,24 @@ def odds_of(many):
         ((0, 1),) * (many - 1) + ((1, 1),), ((-1, 2), (3, 2)) + ((0, 1),) * (many - 2), ((2, 2 * many),) * many,
         ((1, 61),) * (many - 1) + ((62 - many, 61),), (1, many) * many,
     ))
+
+
+def chances_of_three():
+    """The kind of chances of three people."""
+    good = ((1, 3), (0, 1), (2, 3))
+    entries = NOT_TUPLES + (
+        (), (1,), (1, 2, 3), (0, 2), (0, 0), (1, 0), (-1, 3), (1, -3), (-1, -3), (2, 6), (3, 9), (1, 61), (1, 59),
+        (1, 60), (2, 1), (0, -1), (HUGE, 1), (1, HUGE), (HUGE, HUGE + 1), (-HUGE, 1), ((1, 3),), (1, (3,)), [1, 3],
+    ) + with_bad_entries((1, 3)) + with_bad_entries((0, 1))
+    rows = tuple(good[:at] + (entry,) + good[at + 1:] for at in range(3) for entry in entries)
+    return kind(good, BadChances, NOT_TUPLES + rows + (
+        (), good[:1], good[::2], good + ((0, 1),), ((1, 1),), good[0], (good,), ((1, 1),) * 3, ((0, 1),) * 3,
+        # The sum is 1, but not of such ratios.
+        ((-1, 2), (3, 2), (0, 1)), ((2, 6),) * 3, ((1, 61), (60, 61), (0, 1)), (1, 3) * 3,
+    ))
+
+
+CHANCES = chances_of_three()
 
 
 def times_of(many):

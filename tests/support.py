@@ -127,6 +127,14 @@ def some_webs(seed, many, sizes):
         yield size, tuple(chance.sample(arcs, chance.randint(0, min(12, len(arcs)))))
 
 
+def can_come(web, without, person, goal):
+    """Whether a sign can come from the one to the other without some arcs."""
+    found = {person}
+    for _ in people_of(web):
+        found |= {taker for at, (source, taker) in enumerate(web[1]) if at not in without and source in found}
+    return goal in found
+
+
 def priced(webs, seed):
     """The webs with prices by chance: some low ones, so that many are alike, and high ones."""
     chance = random.Random(seed)

@@ -150,6 +150,40 @@ EXAMPLES = {
 >>> [closed_sets(web), closure(web, (2,)), inside(web, (2,)), spreads(web, (0,)), cheap_agreement(web, (5,))]
 [((), (1,), (1, 2)), (1, 2), (), ((1, 1), (2, 0)), (5, 1, (0,))]
 """,
+    "streams": """
+>>> from bellcopies.streams import cheap_hinder, streams
+>>> web = (2, ((1, 2),))
+>>> [cheap_hinder(web, (4,), 1, 2), streams(web, (4,), 1, 2)]
+[(4, (0,)), (4,)]
+""",
+    "keeping": """
+>>> from bellcopies.keeping import full_count, full_log, heard_sets
+>>> web = (2, ((1, 2), (2, 1)))
+>>> [heard_sets(web, (0,)), full_log(web), full_count(web)]
+[((1,), (1, 2)), (0, 1), 2]
+""",
+    "twins": """
+>>> from bellcopies.twins import shows_goal_twins, tells_goals
+>>> web = (2, ((1, 2),))
+>>> [tells_goals(web, ((4, 7),)), shows_goal_twins(web, ((4, 4),), ((1, 1), (1, 2)))]
+[True, True]
+""",
+    "paying": """
+>>> from bellcopies.paying import cheap_goal, cheap_moves
+>>> [cheap_moves(2, (3, 4), (1, 1)), cheap_goal((2, ((1, 2),)), (5,), (2, 2))]
+[(4, (2,)), None]
+""",
+    "between": """
+>>> from bellcopies.between import between_count, lost, own, single, steady_above, steady_below
+>>> [between_count((1, 2, 3), (1, 1, 1)), steady_below((1, 1, 2)), steady_above((1, 1, 2)), single((1, 1, 2)), own((1, 1, 3)), lost((1, 1, 3))]
+[5, (1, 1, 1), ((1, 1, 3), (1, 2, 2)), (2, 3), (1, 3), (2,)]
+""",
+    "shares": """
+>>> from bellcopies.shares import evenest, shares_for, shows_shares_paper
+>>> pair = (2, ((1, 2), (2, 1)))
+>>> [shares_for(pair, ((1, 3), (2, 3))), evenest(pair, ((1, 3), (2, 3))), shows_shares_paper((2, ((1, 2),)), ((1, 2), (1, 2)), ((0, 1), (2, 1)))]
+[((1, 3), (2, 3)), ((2, 3), ((1, 3), (2, 3))), True]
+""",
 }
 
 

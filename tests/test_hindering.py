@@ -6,15 +6,7 @@ import unittest
 
 from bellcopies.errors import BadPerson
 from bellcopies.hindering import hinder, shows_hinder, shows_ways_apart, ways_apart
-from tests.support import arcs_among, error_of, people_of, small_webs, some_webs, strange_values
-
-
-def can_come(web, without, person, goal):
-    """Whether a sign can come from the one to the other without some arcs."""
-    found = {person}
-    for _ in people_of(web):
-        found |= {taker for at, (source, taker) in enumerate(web[1]) if at not in without and source in found}
-    return goal in found
+from tests.support import arcs_among, can_come, error_of, people_of, small_webs, some_webs, strange_values
 
 
 def slow_fewest(web, person, goal):

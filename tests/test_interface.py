@@ -75,6 +75,25 @@ INTERFACE = {
         "closed_sets(web)", "spreads(web, log)", "closure(web, some)", "inside(web, some)",
         "cheap_agreement(web, prices)", "shows_agreement(web, prices, value)",
     ),
+    "streams": (
+        "cheap_hinder(web, prices, person, goal)", "streams(web, prices, person, goal)",
+        "shows_cheap_hinder(web, prices, person, goal, value)", "shows_streams(web, prices, person, goal, value)",
+    ),
+    "keeping": ("heard_sets(web, log)", "full_log(web)", "full_count(web)"),
+    "twins": ("tells_goals(web, starts)", "shows_goal_twins(web, starts, value)", "goal_twins(web, starts)"),
+    "paying": (
+        "cheap_moves(size, prices, rising)", "cheap_goal(web, prices, goal)",
+        "shows_cheap_moves(size, prices, rising, value)", "shows_cheap_goal(web, prices, goal, value)",
+    ),
+    "between": (
+        "between_count(one, other)", "steady_below(stair)", "single(stair)", "own(stair)", "lost(stair)",
+        "steady_above(stair)",
+    ),
+    "shares": (
+        "shares_for(web, chances)", "shares_paper(web, chances)", "evenest(web, chances)",
+        "shows_shares(web, chances, value)", "shows_shares_paper(web, chances, value)",
+        "shows_evenest(web, chances, value)",
+    ),
 }
 
 METHODS = {

@@ -4,12 +4,14 @@ import copy
 import unittest
 
 from bellcopies import (
-    again, alike, beats, cheapest, choirs, climbs, drift, goals, groups, hands, hearings, hindering, moves, odds, order,
-    patterns, products, rings, rounds, rows, stairs, starts, times, webs, webtext, winning,
+    again, alike, beats, between, cheapest, choirs, climbs, drift, goals, groups, hands, hearings, hindering, keeping,
+    moves, odds, order, patterns, paying, products, rings, rounds, rows, shares, stairs, starts, streams, times, twins,
+    webs, webtext, winning,
 )
 from bellcopies.errors import BellError, TooMany
 from tests import kinds
 from tests.support import error_of, strange_values
+from tests.test_interface import INTERFACE
 
 # What may stand last in a call of a function whose name begins with `shows`: nothing is bad there.
 ANYTHING = (None, ())
@@ -152,6 +154,32 @@ CALLS = (
     (groups.spreads, kinds.WEB, kinds.LOG),
     (groups.cheap_agreement, kinds.WEB, kinds.prices_of(2)),
     (groups.shows_agreement, kinds.WEB, kinds.prices_of(2), ANYTHING),
+    (streams.cheap_hinder, kinds.WEB, kinds.prices_of(2), kinds.PERSON, kinds.UNLIKE),
+    (streams.streams, kinds.WEB, kinds.prices_of(2), kinds.PERSON, kinds.UNLIKE),
+    (streams.shows_cheap_hinder, kinds.WEB, kinds.prices_of(2), kinds.PERSON, kinds.UNLIKE, ANYTHING),
+    (streams.shows_streams, kinds.WEB, kinds.prices_of(2), kinds.PERSON, kinds.UNLIKE, ANYTHING),
+    (keeping.heard_sets, kinds.WEB, kinds.LOG),
+    (keeping.full_log, kinds.WEB),
+    (keeping.full_count, kinds.WEB),
+    (twins.tells_goals, kinds.WEB, kinds.starts_of(3)),
+    (twins.goal_twins, kinds.WEB, kinds.starts_of(3)),
+    (twins.shows_goal_twins, kinds.WEB, kinds.starts_of(3), ANYTHING),
+    (paying.cheap_moves, kinds.SIZE, kinds.prices_of(4), kinds.rising_of(3)),
+    (paying.shows_cheap_moves, kinds.SIZE, kinds.prices_of(4), kinds.rising_of(3), ANYTHING),
+    (paying.cheap_goal, kinds.WEB, kinds.prices_of(2), kinds.goal_of(3)),
+    (paying.shows_cheap_goal, kinds.WEB, kinds.prices_of(2), kinds.goal_of(3), ANYTHING),
+    (between.between_count, kinds.STAIR, kinds.SECOND_STAIR),
+    (between.steady_below, kinds.STAIR),
+    (between.steady_above, kinds.STAIR),
+    (between.single, kinds.STAIR),
+    (between.own, kinds.STAIR),
+    (between.lost, kinds.STAIR),
+    (shares.shares_for, kinds.WEB, kinds.CHANCES),
+    (shares.shares_paper, kinds.WEB, kinds.CHANCES),
+    (shares.evenest, kinds.WEB, kinds.CHANCES),
+    (shares.shows_shares, kinds.WEB, kinds.CHANCES, ANYTHING),
+    (shares.shows_shares_paper, kinds.WEB, kinds.CHANCES, ANYTHING),
+    (shares.shows_evenest, kinds.WEB, kinds.CHANCES, ANYTHING),
 )
 
 # Functions, the most that they allow, and kinds whose good values are one more than that.
@@ -176,6 +204,15 @@ TOO_MANY = (
     (drift.still_said, 4, kinds.web_of(5), kinds.odds_of(4), kinds.count_to(8)),
     (drift.mean_agreed, 3, kinds.web_of(4), kinds.odds_of(3)),
     (hands.forced_win, 3, kinds.web_of(4), kinds.person_of(4), kinds.count_to(60)),
+    (keeping.full_log, 4, kinds.web_of(5)),
+    (keeping.full_count, 4, kinds.web_of(5)),
+    (twins.tells_goals, 4, kinds.web_of(5), kinds.starts_of(5)),
+    (twins.goal_twins, 4, kinds.web_of(5), kinds.starts_of(5)),
+    (twins.shows_goal_twins, 4, kinds.web_of(5), kinds.starts_of(5), ANYTHING),
+    (paying.cheap_moves, 5, kinds.size_of(6), kinds.prices_of(10), kinds.rising_of(6)),
+    (paying.shows_cheap_moves, 5, kinds.size_of(6), kinds.prices_of(10), kinds.rising_of(6), ANYTHING),
+    (paying.cheap_goal, 4, kinds.web_of(5), kinds.prices_of(4), kinds.goal_of(5)),
+    (paying.shows_cheap_goal, 4, kinds.web_of(5), kinds.prices_of(4), kinds.goal_of(5), ANYTHING),
 )
 
 
@@ -186,6 +223,15 @@ class WrongInputs(unittest.TestCase):
         self.assertIsInstance(found, BellError)
         for name, content in fields.items():
             self.assertEqual(getattr(found, name), content, (function.__name__, arguments))
+
+    def test_each_function_of_the_interface_is_called(self):
+        called = {(function.__module__.rpartition(".")[2], function.__name__) for function, *_ in CALLS}
+        listed = {(module, line.partition("(")[0]) for module, lines in INTERFACE.items() for line in lines}
+        self.assertEqual(listed - called, {("choirs", "Choir")})
+
+    def test_each_function_that_shows_takes_any_last_value(self):
+        for function, *wanted in CALLS:
+            self.assertEqual(function.__name__.startswith("shows"), wanted[-1] is ANYTHING, function.__name__)
 
     def test_good_arguments(self):
         for function, *wanted in CALLS:
